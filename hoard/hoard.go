@@ -1,0 +1,117 @@
+// Package hoard: many texts in few blocks, and a small machine that goes on with them: see DOC.md.
+package hoard
+
+import (
+	"slices"
+
+	"hoard/api"
+	"hoard/decoder"
+	"hoard/store"
+)
+
+// Hoard holds sequences.
+type Hoard struct {
+	config    api.Config
+	model     *decoder.Model
+	pool      *store.Pool[block]
+	whole     store.Tree[int, *block]
+	sequences map[int]sequence
+}
+
+// New makes a hoard (P3).
+func New(c api.Config) (*Hoard, api.Errno) {
+	if !isConfig(c) {
+		return nil, api.ErrArg
+	}
+	return &Hoard{
+		config:    c,
+		model:     decoder.New(c),
+		pool:      store.NewPool[block](c.Blocks),
+		sequences: map[int]sequence{},
+	}, api.OK
+}
+
+func isConfig(c api.Config) bool {
+	return within(c.Blocks, 1, api.MaxBlocks) &&
+		within(c.Slots, 1, api.MaxSlots) &&
+		within(c.Layers, 1, api.MaxLayers) &&
+		within(c.Heads, 1, api.MaxHeads) &&
+		within(c.Pairs, 1, api.MaxPairs) &&
+		within(c.Vocab, 2, api.MaxVocab)
+}
+
+func within(n, least, most int) bool { return least <= n && n <= most }
+
+// Create makes a sequence (P4).
+func (h *Hoard) Create(id int, tokens []int) api.Errno {
+	_, there := h.sequences[id]
+	switch {
+	case there:
+		return api.ErrThere
+	case len(h.sequences) >= api.MaxSequences || len(tokens) == 0:
+		return api.ErrArg
+	case slices.ContainsFunc(tokens, h.isNoToken):
+		return api.ErrToken
+	case len(tokens) > api.MaxLength:
+		return api.ErrLong
+	case h.neededAnew(tokens) > h.pool.Free():
+		return api.ErrFull
+	}
+	h.sequences[id] = h.lay(tokens)
+	return api.OK
+}
+
+func (h *Hoard) isNoToken(n int) bool { return !within(n, 0, h.config.Vocab-1) }
+
+// Append puts tokens behind a sequence's (P4).
+func (h *Hoard) Append(id int, tokens []int) api.Errno { return api.OK }
+
+// Decode goes on with a sequence (P5).
+func (h *Hoard) Decode(id int, n int) ([]int, api.Errno) { return nil, api.OK }
+
+// Fork makes another sequence of one (P6).
+func (h *Hoard) Fork(id int, other int) api.Errno { return api.OK }
+
+// Free takes a sequence away (P6).
+func (h *Hoard) Free(id int) api.Errno { return api.OK }
+
+// Evict frees idle blocks (P6).
+func (h *Hoard) Evict(n int) int { return 0 }
+
+// Tokens tells a sequence's tokens (P7).
+func (h *Hoard) Tokens(id int) ([]int, api.Errno) {
+	s, there := h.sequences[id]
+	if !there {
+		return nil, api.ErrNone
+	}
+	return s.tokens(), api.OK
+}
+
+// Logits tells what the decoder holds of each token to come (P7).
+func (h *Hoard) Logits(id int) ([]int, api.Errno) {
+	s, there := h.sequences[id]
+	if !there {
+		return nil, api.ErrNone
+	}
+	tokens, cells := s.tokens(), s.cells()
+	last := len(tokens) - 1
+	x, _ := h.model.Pass(tokens[last], cells[:last])
+	return h.model.Logits(x), api.OK
+}
+
+// Kept tells what is kept of a position (P7).
+func (h *Hoard) Kept(id int, layer int, position int) ([]int, []int, api.Errno) {
+	s, there := h.sequences[id]
+	if !there {
+		return nil, nil, api.ErrNone
+	}
+	cells := s.cells()
+	if !within(layer, 0, h.config.Layers-1) || !within(position, 0, len(cells)-1) {
+		return nil, nil, api.ErrArg
+	}
+	kept := cells[position][layer]
+	return slices.Clone(kept.K), slices.Clone(kept.V), api.OK
+}
+
+// Stats tells how the blocks are (P7).
+func (h *Hoard) Stats() api.Stats { return api.Stats{} }
