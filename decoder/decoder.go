@@ -45,27 +45,37 @@ func New(c api.Config) *Model {
 	return m
 }
 
-// Pass sends a token through all layers, behind the tokens whose cells are the past. It gives what comes out of the last layer, and the token's own cell.
-func (m *Model) Pass(token int, past []Cell) ([]int, Cell) {
+// Pass sends a token through all layers, behind the tokens whose cells are the past. Its own cell is handed in if it is kept already, so that it is not reckoned again; else nil. It gives what comes out of the last layer, and the token's own cell.
+func (m *Model) Pass(token int, past []Cell, own Cell) ([]int, Cell) {
 	position := len(past)
 	x := embedded(m.embedding[token])
-	cell := make(Cell, len(m.layers))
 	for i, l := range m.layers {
 		y := norm(x)
+		if i == len(own) {
+			own = append(own, Memory{K: turn(l.k.times(y), position, m.pairs), V: l.v.times(y)})
+		}
 		q := turn(l.q.times(y), position, m.pairs)
-		k := turn(l.k.times(y), position, m.pairs)
-		cell[i] = Memory{K: k, V: l.v.times(y)}
-		seen := append(ofLayer(past, i), cell[i])
+		seen := append(ofLayer(past, i), own[i])
 		x = plus(x, l.o.times(m.attend(q, seen)))
 		z := notBelowZero(l.up.times(norm(x)))
 		x = plus(x, l.down.times(z))
 	}
-	return x, cell
+	return x, own
 }
 
 // Logits takes what came out of the last layer.
 func (m *Model) Logits(x []int) []int {
 	return m.head.times(norm(x))
+}
+
+// Next takes what came out of the last layer, and gives the next token.
+func (m *Model) Next(x []int) int {
+	return greatest(m.Logits(x))
+}
+
+// greatest tells where the greatest number stands, the first of several.
+func greatest(numbers []int) int {
+	return slices.Index(numbers, slices.Max(numbers))
 }
 
 func embedded(row []int) []int {

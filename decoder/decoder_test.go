@@ -62,11 +62,61 @@ func TestShapes(t *testing.T) {
 
 func TestPassLeavesThePastAlone(t *testing.T) {
 	m := New(api.Config{Blocks: 1, Slots: 1, Layers: 1, Heads: 1, Pairs: 1, Vocab: 4})
-	_, first := m.Pass(0, nil)
+	_, first := m.Pass(0, nil, nil)
 	k, v := slices.Clone(first[0].K), slices.Clone(first[0].V)
 	room := []Cell{first, nil}
-	m.Pass(3, room[:1])
+	m.Pass(3, room[:1], nil)
 	if !slices.Equal(first[0].K, k) || !slices.Equal(first[0].V, v) || room[1] != nil {
 		t.Errorf("the past became %v", room)
+	}
+}
+
+func TestPassTakesACellThatIsKeptAsItIs(t *testing.T) {
+	m := New(api.Config{Blocks: 1, Slots: 1, Layers: 2, Heads: 1, Pairs: 1, Vocab: 4})
+	_, first := m.Pass(0, nil, nil)
+	x, cell := m.Pass(3, []Cell{first}, nil)
+	again, same := m.Pass(3, []Cell{first}, cell)
+	if !slices.Equal(again, x) || &same[0] != &cell[0] || len(same) != 2 {
+		t.Errorf("with its own cell handed in: %v, want %v", again, x)
+	}
+	odd := Cell{{K: cell[0].K, V: []int{4000, -4000}}, cell[1]}
+	other, same := m.Pass(3, []Cell{first}, odd)
+	if slices.Equal(other, x) || !slices.Equal(same[0].V, []int{4000, -4000}) {
+		t.Errorf("a cell that is kept was reckoned again: %v", other)
+	}
+}
+
+func TestGreatestIsTheFirstOfSeveral(t *testing.T) {
+	for _, c := range []struct {
+		numbers []int
+		want    int
+	}{
+		{[]int{5}, 0},
+		{[]int{-5, -4}, 1},
+		{[]int{0, 0}, 0},
+		{[]int{1, 7, 3, 7, 7}, 1},
+		{[]int{-4095, -4095, 4095, 4095}, 2},
+		{[]int{9, 8, 9}, 0},
+	} {
+		if got := greatest(c.numbers); got != c.want {
+			t.Errorf("greatest(%v) = %d, want %d", c.numbers, got, c.want)
+		}
+	}
+}
+
+func TestNextIsTheTokenOfTheGreatestLogit(t *testing.T) {
+	m := &Model{head: matrix{{1, 0}, {0, 1}, {0, 1}, {-1, -1}}}
+	for _, c := range []struct {
+		x    []int
+		want int
+	}{
+		{[]int{100, 50}, 0},
+		{[]int{50, 100}, 1},
+		{[]int{-50, -50}, 3},
+		{[]int{0, 0}, 0},
+	} {
+		if got := m.Next(c.x); got != c.want {
+			t.Errorf("Next(%v) = %d, want %d", c.x, got, c.want)
+		}
 	}
 }

@@ -54,20 +54,43 @@ func (h *Hoard) Create(id int, tokens []int) api.Errno {
 		return api.ErrToken
 	case len(tokens) > api.MaxLength:
 		return api.ErrLong
-	case h.neededAnew(tokens) > h.pool.Free():
-		return api.ErrFull
 	}
-	h.sequences[id] = h.lay(tokens)
-	return api.OK
+	return h.put(id, tokens, nil)
 }
 
 func (h *Hoard) isNoToken(n int) bool { return !within(n, 0, h.config.Vocab-1) }
 
 // Append puts tokens behind a sequence's (P4).
-func (h *Hoard) Append(id int, tokens []int) api.Errno { return api.OK }
+func (h *Hoard) Append(id int, tokens []int) api.Errno {
+	s, there := h.sequences[id]
+	switch {
+	case !there:
+		return api.ErrNone
+	case slices.ContainsFunc(tokens, h.isNoToken):
+		return api.ErrToken
+	case len(tokens) > s.room():
+		return api.ErrLong
+	}
+	return h.put(id, tokens, nil)
+}
 
 // Decode goes on with a sequence (P5).
-func (h *Hoard) Decode(id int, n int) ([]int, api.Errno) { return nil, api.OK }
+func (h *Hoard) Decode(id int, n int) ([]int, api.Errno) {
+	s, there := h.sequences[id]
+	switch {
+	case !there:
+		return nil, api.ErrNone
+	case n < 0:
+		return nil, api.ErrArg
+	case n > s.room():
+		return nil, api.ErrLong
+	}
+	next, cells := h.goOn(s, n)
+	if e := h.put(id, next, cells); e != api.OK {
+		return nil, e
+	}
+	return next, api.OK
+}
 
 // Fork makes another sequence of one (P6).
 func (h *Hoard) Fork(id int, other int) api.Errno { return api.OK }
@@ -93,10 +116,7 @@ func (h *Hoard) Logits(id int) ([]int, api.Errno) {
 	if !there {
 		return nil, api.ErrNone
 	}
-	tokens, cells := s.tokens(), s.cells()
-	last := len(tokens) - 1
-	x, _ := h.model.Pass(tokens[last], cells[:last])
-	return h.model.Logits(x), api.OK
+	return h.model.Logits(h.behind(s)), api.OK
 }
 
 // Kept tells what is kept of a position (P7).

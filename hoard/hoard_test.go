@@ -330,11 +330,15 @@ func TestP1NoCallPanics(t *testing.T) {
 			for _, n := range odd {
 				h.Create(id, []int{n})
 				h.Create(id, []int{0, n})
+				h.Append(id, []int{n})
+				h.Append(id, []int{0, n})
+				h.Decode(id, n)
 				for _, m := range odd {
 					h.Kept(id, n, m)
 				}
 			}
 			h.Create(id, nil)
+			h.Append(id, nil)
 			h.Tokens(id)
 			h.Logits(id)
 		}

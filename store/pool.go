@@ -1,7 +1,7 @@
 // Package store: what keeps things, whatever they are: a pool, and a tree by paths.
 package store
 
-// Pool has a fixed number of things, and hands them out.
+// Pool has a fixed number of things, hands them out, and takes them back.
 type Pool[T any] struct {
 	free []*T
 }
@@ -28,4 +28,11 @@ func (p *Pool[T]) Take() *T {
 	p.free[last] = nil // so that the pool does not hold what it gave away
 	p.free = p.free[:last]
 	return thing
+}
+
+// Give takes back a thing that was handed out, and makes it as new: what lay in it is held no longer.
+func (p *Pool[T]) Give(thing *T) {
+	var blank T
+	*thing = blank
+	p.free = append(p.free, thing)
 }

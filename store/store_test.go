@@ -22,6 +22,24 @@ func TestPool(t *testing.T) {
 	}
 }
 
+func TestPoolTakesBack(t *testing.T) {
+	p := NewPool[[]int](2)
+	a, b := p.Take(), p.Take()
+	*a, *b = []int{1}, []int{2}
+	p.Give(a)
+	if p.Free() != 1 || *a != nil || (*b)[0] != 2 {
+		t.Errorf("%d free, and in them %v", p.Free(), *a)
+	}
+	if p.Take() != a || p.Free() != 0 || p.Take() != nil {
+		t.Errorf("what was given back is not what is taken")
+	}
+	p.Give(b)
+	p.Give(a)
+	if c, d := p.Take(), p.Take(); c == d || c == nil || d == nil || p.Take() != nil {
+		t.Errorf("two things given back are not two")
+	}
+}
+
 func TestTree(t *testing.T) {
 	var tree Tree[string, int]
 	if _, there := tree.At(nil); there {
