@@ -3,11 +3,11 @@ package hoard
 import "hoard/decoder"
 
 // goOn reckons the next n tokens of a sequence, and their cells, and changes nothing: how many blocks they need can be told only when all of them are known.
-func (h *Hoard) goOn(s sequence, n int) ([]int, []decoder.Cell) {
+func (h *Hoard) goOn(last *block, n int) ([]int, []decoder.Cell) {
 	next := make([]int, n)
-	cells := s.cells()
+	cells := last.cells()
 	known := len(cells)
-	x := h.behind(s)
+	x := h.behind(last)
 	for i := range next {
 		next[i] = h.model.Next(x)
 		var cell decoder.Cell
@@ -18,9 +18,9 @@ func (h *Hoard) goOn(s sequence, n int) ([]int, []decoder.Cell) {
 }
 
 // behind gives what comes out of the last layer for the last token of a sequence.
-func (h *Hoard) behind(s sequence) []int {
-	tokens, cells := s.tokens(), s.cells()
-	last := len(tokens) - 1
-	x, _ := h.model.Pass(tokens[last], cells[:last], cells[last])
+func (h *Hoard) behind(last *block) []int {
+	tokens, cells := last.tokens(), last.cells()
+	p := len(tokens) - 1
+	x, _ := h.model.Pass(tokens[p], cells[:p], cells[p])
 	return x
 }

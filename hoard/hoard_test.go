@@ -333,6 +333,7 @@ func TestP1NoCallPanics(t *testing.T) {
 				h.Append(id, []int{n})
 				h.Append(id, []int{0, n})
 				h.Decode(id, n)
+				h.Fork(id, n)
 				for _, m := range odd {
 					h.Kept(id, n, m)
 				}
@@ -341,6 +342,14 @@ func TestP1NoCallPanics(t *testing.T) {
 			h.Append(id, nil)
 			h.Tokens(id)
 			h.Logits(id)
+		}
+		for _, n := range odd { // now there are many
+			h.Fork(n, n)
+			h.Free(n)
+			h.Free(n)
+			h.Create(n, []int{1, 1, 0})
+			h.Evict(n)
+			h.Stats()
 		}
 	}
 }

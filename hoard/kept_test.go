@@ -16,9 +16,19 @@ func marked(t *testing.T) *Hoard {
 		t.Fatal(e)
 	}
 	for p := range 3 {
-		h.sequences[1][p/2].slots[p%2].cell = mark(p)
+		blocksOf(h, 1)[p/2].slots[p%2].cell = mark(p)
 	}
 	return h
+}
+
+// blocksOf is a sequence's blocks, from the first one on.
+func blocksOf(h *Hoard, id int) []*block {
+	var out []*block
+	for b := h.sequences[id]; b != nil; b = b.ahead {
+		out = append(out, b)
+	}
+	slices.Reverse(out)
+	return out
 }
 
 // mark is what no token comes to at this position; it counts for all tokens behind it as much as each other mark.
@@ -75,19 +85,81 @@ func TestDecodeGoesOnFromWhatIsKept(t *testing.T) {
 func TestATailThatIsLeftGoesBackToThePool(t *testing.T) {
 	h := marked(t)
 	h.Create(2, []int{0, 1, 2})
-	tail := h.sequences[2][1]
+	tail := h.sequences[2]
 	h.Append(1, []int{3})
 	h.Append(2, []int{3})
-	if h.sequences[2][1] != h.sequences[1][1] || tail.slots != nil || h.pool.Free() != 14 {
-		t.Errorf("%d are free; in the tail that was left: %v", h.pool.Free(), tail.slots)
+	if h.sequences[2] != h.sequences[1] || !isBlank(tail) || h.pool.Free() != 14 {
+		t.Errorf("%d are free; the tail that was left: %v", h.pool.Free(), *tail)
 	}
 }
 
+func isBlank(b *block) bool { return b.slots == nil && b.ahead == nil && b.users == 0 }
+
 func TestATailThatGoesOnStaysTheSameBlock(t *testing.T) {
+	for idle := range 15 { // with all 14 idle, one must go for the block behind
+		h := marked(t)
+		if idle > 0 {
+			h.Create(2, make([]int, 2*idle))
+			h.Free(2)
+		}
+		tail := h.sequences[1]
+		if e := h.Append(1, []int{3, 3}); e != api.OK || h.idle.Len() != min(idle, 13) {
+			t.Fatalf("Append = %d, and %d are idle", e, h.idle.Len())
+		}
+		if l := blocksOf(h, 1); l[1] != tail || l[2] == tail {
+			t.Errorf("with %d idle blocks the tail's block is another one", idle)
+		}
+	}
+}
+
+// A fork that writes has a block of its own, but for its tokens nothing is reckoned again.
+func TestWhatAForkHasIsNotReckonedAgain(t *testing.T) {
 	h := marked(t)
-	tail := h.sequences[1][1]
+	h.Fork(1, 2)
+	if h.sequences[1] != h.sequences[2] {
+		t.Errorf("the fork has other blocks")
+	}
+	h.Append(2, []int{3})
+	if one, two := blocksOf(h, 1), blocksOf(h, 2); one[0] != two[0] || one[1] == two[1] {
+		t.Errorf("1 has %p, 2 has %p", one, two)
+	}
+	isMarked(t, h, 1)
+	isMarked(t, h, 2)
+}
+
+func TestWhatIsIdleIsNotReckonedAgain(t *testing.T) {
+	h := marked(t)
+	h.Append(1, []int{3})
+	blocks := blocksOf(h, 1)
+	h.Free(1)
+	h.Create(2, []int{0, 1, 2, 3, 0})
+	isMarked(t, h, 2)
+	if !slices.Equal(blocksOf(h, 2)[:2], blocks) {
+		t.Errorf("the idle blocks are not those that are in use again")
+	}
+}
+
+// What was freed is held by nobody, and is reckoned anew.
+func TestWhatIsFreeHoldsNothing(t *testing.T) {
+	h := marked(t)
 	h.Append(1, []int{3, 3})
-	if h.sequences[1][1] != tail || h.sequences[1][2] == tail {
-		t.Errorf("the tail's block is another one")
+	blocks := blocksOf(h, 1)
+	h.Free(1)
+	h.Evict(api.MaxBlocks)
+	if slices.IndexFunc(blocks, func(b *block) bool { return !isBlank(b) }) >= 0 {
+		t.Errorf("in what is free there are %v, %v, %v", *blocks[0], *blocks[1], *blocks[2])
+	}
+	if _, there := h.whole.Farthest([]int{0, 1, 2, 3}); there || len(h.sequences) != 0 || h.idle.Len() != 0 {
+		t.Errorf("something is kept: %v", there)
+	}
+	fresh, _ := New(h.config)
+	for _, x := range []*Hoard{h, fresh} {
+		x.Create(2, []int{0, 1, 2, 3})
+	}
+	got, want := h.sequences[2].cells(), fresh.sequences[2].cells()
+	for p := range want {
+		if !slices.Equal(got[p][0].K, want[p][0].K) || !slices.Equal(got[p][0].V, want[p][0].V) {
+			t.Errorf("at %d is kept %v, of a fresh hoard %v", p, got[p], want[p])
+		}
 	}
 }

@@ -1,4 +1,4 @@
-// Package store: what keeps things, whatever they are: a pool, and a tree by paths.
+// Package store: what keeps things, and orders them, whatever they are: a pool, a list, and a tree by paths.
 package store
 
 // Pool has a fixed number of things, hands them out, and takes them back.

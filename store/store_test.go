@@ -40,47 +40,134 @@ func TestPoolTakesBack(t *testing.T) {
 	}
 }
 
-func TestTree(t *testing.T) {
-	var tree Tree[string, int]
-	if _, there := tree.At(nil); there {
-		t.Errorf("an empty tree has a value")
+func TestPoolHoldsNothingThatItGaveAway(t *testing.T) {
+	p := NewPool[int](3)
+	for range 2 {
+		p.Take()
 	}
-	tree.Put([]string{"a", "b"}, 1)
-	tree.Put([]string{"a", "b", "c"}, 2)
-	tree.Put([]string{"b", "b"}, 0)
-	for _, c := range []struct {
-		path  []string
-		value int
-		there bool
-	}{
-		{nil, 0, false},
-		{[]string{"a"}, 0, false},
-		{[]string{"a", "b"}, 1, true},
-		{[]string{"a", "b", "c"}, 2, true},
-		{[]string{"a", "b", "c", "d"}, 0, false},
-		{[]string{"b", "b"}, 0, true},
-		{[]string{"b", "a"}, 0, false},
-		{[]string{"c"}, 0, false},
-	} {
-		if v, there := tree.At(c.path); v != c.value || there != c.there {
-			t.Errorf("At(%v) = %d, %v", c.path, v, there)
+	for i, thing := range p.free[:3] {
+		if (thing != nil) != (i == 0) {
+			t.Errorf("at %d is %p", i, thing)
 		}
 	}
-	tree.Put([]string{"a", "b"}, 7)
-	if v, _ := tree.At([]string{"a", "b"}); v != 7 {
-		t.Errorf("put anew: %d", v)
+}
+
+func TestList(t *testing.T) {
+	var l List[string]
+	if l.Len() != 0 || l.First() != "" {
+		t.Errorf("an empty list has %d: %q", l.Len(), l.First())
 	}
-	if v, _ := tree.At([]string{"a", "b", "c"}); v != 2 {
-		t.Errorf("what lay behind it: %d", v)
+	l.Remove("a")
+	for _, thing := range []string{"c", "a", "d", "b"} {
+		l.Add(thing)
+	}
+	l.Remove("a")
+	l.Remove("e")
+	l.Add("a") // it came last now
+	for i, want := range []string{"c", "d", "b", "a"} {
+		if l.Len() != 4-i || l.First() != want || l.First() != want {
+			t.Errorf("first of %d is %q, want %q", l.Len(), l.First(), want)
+		}
+		l.Remove(want)
+	}
+	if l.Len() != 0 || l.First() != "" {
+		t.Errorf("all removed: %d left: %q", l.Len(), l.First())
+	}
+}
+
+func TestListHoldsNothingThatWasRemoved(t *testing.T) {
+	var l List[*int]
+	for range 3 {
+		l.Add(new(int))
+	}
+	for range 3 {
+		l.Remove(l.First())
+	}
+	for _, thing := range l.things[:cap(l.things)] {
+		if thing != nil {
+			t.Errorf("what was removed is held")
+		}
+	}
+}
+
+type wanted struct {
+	path  string
+	value int
+	there bool
+}
+
+func lies(t *testing.T, tree *Tree[byte, int], all ...wanted) {
+	t.Helper()
+	for _, w := range all {
+		if v, there := tree.Farthest([]byte(w.path)); v != w.value || there != w.there {
+			t.Errorf("Farthest(%q) = %d, %v, want %d, %v", w.path, v, there, w.value, w.there)
+		}
+	}
+}
+
+func planted() *Tree[byte, int] {
+	var tree Tree[byte, int]
+	tree.Put([]byte("ab"), 1)
+	tree.Put([]byte("abcd"), 2)
+	tree.Put([]byte("bb"), 0)
+	return &tree
+}
+
+func TestTree(t *testing.T) {
+	var empty Tree[byte, int]
+	lies(t, &empty, wanted{"", 0, false}, wanted{"a", 0, false})
+	tree := planted()
+	lies(t, tree,
+		wanted{"", 0, false}, wanted{"a", 0, false}, wanted{"ab", 1, true}, wanted{"abc", 1, true}, wanted{"abcd", 2, true},
+		wanted{"abcde", 2, true}, wanted{"abce", 1, true}, wanted{"abdd", 1, true}, wanted{"abdc", 1, true}, wanted{"acb", 0, false},
+		wanted{"bb", 0, true}, wanted{"bbcd", 0, true}, wanted{"ba", 0, false}, wanted{"c", 0, false}, wanted{"cd", 0, false})
+	tree.Put([]byte("ab"), 7)
+	lies(t, tree, wanted{"ab", 7, true}, wanted{"abcd", 2, true})
+	tree.Put(nil, 9)
+	lies(t, tree, wanted{"", 9, true}, wanted{"c", 9, true}, wanted{"ab", 7, true})
+}
+
+func TestTreeRemove(t *testing.T) {
+	tree := planted()
+	for _, path := range []string{"", "a", "abc", "abcde", "b", "c", "bbb"} { // where no value is
+		tree.Remove([]byte(path))
+	}
+	lies(t, tree, wanted{"abcd", 2, true}, wanted{"abc", 1, true}, wanted{"bb", 0, true})
+	tree.Remove([]byte("ab"))
+	lies(t, tree, wanted{"abcd", 2, true}, wanted{"abc", 0, false}, wanted{"bb", 0, true})
+	tree.Put([]byte("ab"), 3)
+	tree.Remove([]byte("abcd"))
+	lies(t, tree, wanted{"abcd", 3, true}, wanted{"bb", 0, true})
+	tree.Put(nil, 4)
+	tree.Remove(nil)
+	lies(t, tree, wanted{"", 0, false}, wanted{"ab", 3, true})
+}
+
+func TestTreeHoldsNothingThatWasRemoved(t *testing.T) {
+	var tree Tree[byte, *int]
+	for _, path := range []string{"", "ab", "abcd", "abce", "b"} {
+		tree.Put([]byte(path), new(int))
+	}
+	tree.Remove([]byte("abcd"))
+	if ab := tree.children['a'].children['b']; len(ab.children['c'].children) != 1 || ab.value == nil {
+		t.Errorf("too much was removed, or too little")
+	}
+	tree.Remove([]byte("abce"))
+	if ab := tree.children['a'].children['b']; len(ab.children) != 0 || ab.value == nil {
+		t.Errorf("steps that lead nowhere are kept")
+	}
+	for _, path := range []string{"b", "", "ab"} {
+		tree.Remove([]byte(path))
+	}
+	if len(tree.children) != 0 || tree.value != nil {
+		t.Errorf("%d steps, and %v, are kept", len(tree.children), tree.value)
 	}
 }
 
 func TestTreeDoesNotKeepThePath(t *testing.T) {
-	var tree Tree[int, int]
-	path := []int{1, 2}
+	var tree Tree[byte, int]
+	path := []byte("ab")
 	tree.Put(path, 5)
-	path[0] = 9
-	if v, there := tree.At([]int{1, 2}); v != 5 || !there {
-		t.Errorf("At = %d, %v", v, there)
-	}
+	path[0] = 'c'
+	lies(t, &tree, wanted{"ab", 5, true}, wanted{"cb", 0, false})
 }

@@ -7,17 +7,19 @@ type Tree[K comparable, V any] struct {
 	has      bool
 }
 
-// At gives the value that was put at the end of the path, if there is one.
-func (t *Tree[K, V]) At(path []K) (V, bool) {
+// Farthest gives the value that lies farthest along the path, if there is one on it.
+func (t *Tree[K, V]) Farthest(path []K) (V, bool) {
+	value, there := t.value, t.has
 	for _, step := range path {
-		next, there := t.children[step]
-		if !there {
-			var none V
-			return none, false
+		t = t.children[step]
+		if t == nil {
+			break
 		}
-		t = next
+		if t.has {
+			value, there = t.value, true
+		}
 	}
-	return t.value, t.has
+	return value, there
 }
 
 // Put puts a value at the end of the path, in place of the one that was there.
@@ -38,4 +40,21 @@ func (t *Tree[K, V]) child(step K) *Tree[K, V] {
 		t.children[step] = next
 	}
 	return next
+}
+
+// Remove takes the value at the end of the path away, if there is one, and the steps that lead to no other: else the tree would only ever grow.
+func (t *Tree[K, V]) Remove(path []K) {
+	if len(path) == 0 {
+		var none V
+		t.value, t.has = none, false
+		return
+	}
+	next, there := t.children[path[0]]
+	if !there {
+		return
+	}
+	next.Remove(path[1:])
+	if !next.has && len(next.children) == 0 {
+		delete(t.children, path[0])
+	}
 }
